@@ -1,0 +1,1 @@
+"""Potential-based reward shaping: equivalence and regret."""

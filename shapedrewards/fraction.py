@@ -1,0 +1,31 @@
+"""Exact fractions, each a numerator and a denominator above 0."""
+
+
+def greatest_common_divisor(first, second):
+    """Give the greatest whole number that divides both; they are 0 or above, and not both 0."""
+    while second != 0:
+        rest = first % second
+        first = second
+        second = rest
+    return first
+
+
+def lowest_terms(fraction):
+    """Give the same fraction with the least denominator; zero is 0 over 1."""
+    divisor = greatest_common_divisor(abs(fraction[0]), fraction[1])
+    return (fraction[0] // divisor, fraction[1] // divisor)
+
+
+def greater(first, second):
+    """Give the greater of two fractions."""
+    return first if first[0] * second[1] >= second[0] * first[1] else second
+
+
+def written(fractions):
+    """Give the numerator and the denominator of every fraction, in lowest terms, one behind another."""
+    numbers = []
+    for fraction in fractions:
+        lowest = lowest_terms(fraction)
+        numbers.append(lowest[0])
+        numbers.append(lowest[1])
+    return numbers
