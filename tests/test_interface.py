@@ -46,13 +46,17 @@ def joined(calls):
 
 
 class Examples(unittest.TestCase):
+    start = [
+        create(2, 2, 1, 2),
+        set_deterministic([0, 1, 1, 0]),
+        set_reward(0, 0, 1, 1, [4]),
+        set_reward(0, 1, 0, 1, [2]),
+        optimal_values(0),
+    ]
+
     def test_the_rows_of_this_stage(self):
         given = ask(
-            create(2, 2, 1, 2),
-            set_deterministic([0, 1, 1, 0]),
-            set_reward(0, 0, 1, 1, [4]),
-            set_reward(0, 1, 0, 1, [2]),
-            optimal_values(0),
+            *self.start,
             copy_rewards(1),
             shape_rewards(1, [1, 0]),
             are_equivalent(),
@@ -63,11 +67,7 @@ class Examples(unittest.TestCase):
 
     def test_the_rows_of_this_stage_among_the_others(self):
         given = ask(
-            create(2, 2, 1, 2),
-            set_deterministic([0, 1, 1, 0]),
-            set_reward(0, 0, 1, 1, [4]),
-            set_reward(0, 1, 0, 1, [2]),
-            optimal_values(0),
+            *self.start,
             [13, 0],
             [15],
             [16],
