@@ -5,14 +5,13 @@ A call looks at all that could refuse it before it changes anything.
 
 from shapedrewards.codes import NOT_THERE, OUT_OF_LIMITS, TOO_LARGE
 from shapedrewards.limits import action_exists, can_be_given, can_be_next_states, can_be_rewards, can_be_weights
-from shapedrewards.limits import state_exists, table_exists
-from shapedrewards.model import certain, reward_place, transition_place
+from shapedrewards.limits import choice_exists, state_exists, table_exists
+from shapedrewards.model import deterministic, reward_place, transition_place
 
 
 def set_reward(model, table, state, action, following, given):
     """Set one reward."""
-    states_exist = state_exists(model, state) and state_exists(model, following)
-    if not (table_exists(table) and states_exist and action_exists(model, action)):
+    if not (choice_exists(model, table, state, action) and state_exists(model, following)):
         return [NOT_THERE]
     if not can_be_given(given, 1):
         return [OUT_OF_LIMITS]
@@ -93,5 +92,5 @@ def set_deterministic(model, next_states):
     """Let every action in every state lead to one next state."""
     if not can_be_next_states(model, next_states):
         return [OUT_OF_LIMITS]
-    model.weights = [certain(model.state_count, state) for state in next_states]
+    model.weights = deterministic(model, next_states)
     return [0]

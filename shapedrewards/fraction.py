@@ -1,4 +1,4 @@
-"""Exact fractions, each a numerator and a denominator above 0."""
+"""Exact fractions, each a numerator and a denominator above 0, which need not be in lowest terms."""
 
 
 def greatest_common_divisor(first, second):
@@ -14,6 +14,21 @@ def lowest_terms(fraction):
     """Give the same fraction with the least denominator; zero is 0 over 1."""
     divisor = greatest_common_divisor(abs(fraction[0]), fraction[1])
     return (fraction[0] // divisor, fraction[1] // divisor)
+
+
+def added(first, second):
+    """Give the sum of two fractions."""
+    return (first[0] * second[1] + second[0] * first[1], first[1] * second[1])
+
+
+def less(first, second):
+    """Give the first fraction less the second one."""
+    return added(first, (-second[0], second[1]))
+
+
+def same(first, second):
+    """Tell whether two fractions, in whatever terms, are the same number."""
+    return first[0] * second[1] == second[0] * first[1]
 
 
 def greater(first, second):

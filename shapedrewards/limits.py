@@ -5,6 +5,7 @@ GREATEST_GIVEN = 1000
 LEAST_REWARD = -100000
 GREATEST_REWARD = 100000
 GREATEST_WEIGHT = 9
+GREATEST_WORLD_COUNT = 64
 
 
 def can_be_created(state_count, action_count, discount_num, discount_den):
@@ -26,6 +27,11 @@ def state_exists(model, state):
 def action_exists(model, action):
     """Tell whether there is an action of this number."""
     return 0 <= action < model.action_count
+
+
+def choice_exists(model, table, state, action):
+    """Tell whether there are such a table, such a state and such an action."""
+    return table_exists(table) and state_exists(model, state) and action_exists(model, action)
 
 
 def all_within(numbers, least, greatest):
@@ -54,3 +60,16 @@ def can_be_next_states(model, next_states):
     if len(next_states) != model.state_count * model.action_count:
         return False
     return all([state_exists(model, state) for state in next_states])
+
+
+def can_be_policy(model, policy):
+    """Tell whether these name an existing action for every state."""
+    return len(policy) == model.state_count and all([action_exists(model, action) for action in policy])
+
+
+def world_count(model):
+    """Give how many deterministic worlds there are."""
+    count = 1
+    for place in range(model.state_count * model.action_count):
+        count = count * model.state_count
+    return count

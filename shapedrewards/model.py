@@ -24,6 +24,22 @@ def certain(state_count, following):
     return [1 if state == following else 0 for state in range(state_count)]
 
 
+def deterministic(model, next_states):
+    """Give the weights of all transitions in a deterministic world."""
+    return [certain(model.state_count, state) for state in next_states]
+
+
+def with_weights(model, weights):
+    """Give another process that has these weights, and is the same in all else.
+
+    It shares no list with the first one, so nothing that is done with it can reach that.
+    """
+    other = Model(model.state_count, model.action_count, model.discount_num, model.discount_den)
+    other.rewards = [list(rewards) for rewards in model.rewards]
+    other.weights = [list(row) for row in weights]
+    return other
+
+
 def transition_place(model, state, action):
     """Tell where the weights for a state and an action stand."""
     return state * model.action_count + action

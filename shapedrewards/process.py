@@ -6,7 +6,9 @@ from shapedrewards.codes import NO_PROCESS, OUT_OF_LIMITS
 from shapedrewards.forms import read_calls
 from shapedrewards.limits import can_be_created
 from shapedrewards.model import Model
-from shapedrewards.questions import are_equivalent, get_transition, optimal_values
+from shapedrewards.questions import action_value, are_equivalent, expected_reward, get_transition, optimal_actions
+from shapedrewards.questions import optimal_policy, optimal_values, policy_values, regrets, same_optimal_actions
+from shapedrewards.worlds import distinguishes, distinguishing_world, value_with_transition
 
 
 def answers(calls):
@@ -32,7 +34,7 @@ def answer_with(model, number, numbers, row):
     """Answer a call on a process that is there."""
     if number <= 8 and number != 7:
         return changed(model, number, numbers, row)
-    return asked(model, number, numbers)
+    return asked(model, number, numbers, row)
 
 
 def changed(model, number, numbers, row):
@@ -52,7 +54,7 @@ def changed(model, number, numbers, row):
     return set_deterministic(model, row)
 
 
-def asked(model, number, numbers):
+def asked(model, number, numbers, row):
     """Answer one of the calls that leave the process as it is."""
     if number == 7:
         return get_transition(model, numbers[0], numbers[1])
@@ -60,5 +62,27 @@ def asked(model, number, numbers):
         return are_equivalent(model)
     if number == 10:
         return optimal_values(model, numbers[0])
-    # The calls 11 to 20 are read, but nothing is answered to them yet.
-    return []
+    if number == 11:
+        return action_value(model, numbers[0], numbers[1], numbers[2])
+    if number == 12:
+        return optimal_actions(model, numbers[0], numbers[1])
+    if number == 13:
+        return optimal_policy(model, numbers[0])
+    if number == 14:
+        return policy_values(model, numbers[0], row)
+    if number == 15:
+        return same_optimal_actions(model)
+    if number == 16:
+        return regrets(model)
+    if number == 19:
+        return expected_reward(model, numbers[0], numbers[1], numbers[2])
+    return asked_of_worlds(model, number, numbers, row)
+
+
+def asked_of_worlds(model, number, numbers, row):
+    """Answer one of the calls that ask what would be with other transitions."""
+    if number == 17:
+        return distinguishes(model, row)
+    if number == 18:
+        return distinguishing_world(model)
+    return value_with_transition(model, numbers[0], numbers[1], numbers[2], numbers[3], row)

@@ -1,7 +1,22 @@
-"""The exact values of the states, under a policy and at their best."""
+"""The exact values of states, under a policy and at their best, and of actions."""
 
-from shapedrewards.fraction import greater
+from shapedrewards.fraction import added, greater
 from shapedrewards.model import reward_place, transition_place
+from shapedrewards.rows import every_row
+
+
+def weighted_rewards(model, table, state, action):
+    """Give the sum of the action's rewards, each multiplied by the weight of its next state."""
+    weights = model.weights[transition_place(model, state, action)]
+    first = reward_place(model, state, action, 0)
+    rewards = model.rewards[table][first:first + model.state_count]
+    return sum([weight * reward for weight, reward in zip(weights, rewards)])
+
+
+def average_reward(model, table, state, action):
+    """Give the expected reward of the action."""
+    weights = model.weights[transition_place(model, state, action)]
+    return (weighted_rewards(model, table, state, action), sum(weights))
 
 
 def equation(model, table, state, action):
@@ -12,11 +27,9 @@ def equation(model, table, state, action):
     weights, so that all of it is whole.
     """
     weights = model.weights[transition_place(model, state, action)]
-    first = reward_place(model, state, action, 0)
-    rewards = model.rewards[table][first:first + model.state_count]
     row = [-model.discount_num * weight for weight in weights]
     row[state] = row[state] + model.discount_den * sum(weights)
-    row.append(model.discount_den * sum([weight * reward for weight, reward in zip(weights, rewards)]))
+    row.append(model.discount_den * weighted_rewards(model, table, state, action))
     return row
 
 
@@ -52,22 +65,20 @@ def values_under(model, table, policy):
     return solution([equation(model, table, state, action) for state, action in enumerate(policy)])
 
 
-def all_policies(model):
-    """Give every policy there is."""
-    policies = [[]]
-    for state in range(model.state_count):
-        longer = []
-        for policy in policies:
-            for action in range(model.action_count):
-                longer.append(policy + [action])
-        policies = longer
-    return policies
-
-
 def best_values(model, table):
     """Give the optimal value of every state, as fractions that need not be in lowest terms."""
-    policies = all_policies(model)
+    policies = every_row(model.state_count, model.action_count)
     best = values_under(model, table, policies[0])
     for policy in policies[1:]:
         best = [greater(old, new) for old, new in zip(best, values_under(model, table, policy))]
     return best
+
+
+def worth_of_action(model, table, state, action, best):
+    """Give the value of an action, where these are the optimal values of all states."""
+    weights = model.weights[transition_place(model, state, action)]
+    weighted = (0, 1)
+    for weight, value in zip(weights, best):
+        weighted = added(weighted, (weight * value[0], value[1]))
+    later = (model.discount_num * weighted[0], model.discount_den * sum(weights) * weighted[1])
+    return added(average_reward(model, table, state, action), later)

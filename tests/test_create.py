@@ -2,9 +2,11 @@
 
 import unittest
 
-from tests.helper import GREATEST, answer, are_equivalent, ask, copy_rewards, create, get_transition
-from tests.helper import optimal_values, scale_rewards, set_deterministic, set_reward, set_rewards, set_transition
-from tests.helper import shape_rewards, snapshot
+from tests.helper import GREATEST, action_value, answer, are_equivalent, ask, copy_rewards, create, distinguishes
+from tests.helper import distinguishing_world, expected_reward, get_transition, optimal_actions, optimal_policy
+from tests.helper import optimal_values, policy_values, regrets, same_optimal_actions, scale_rewards
+from tests.helper import set_deterministic, set_reward, set_rewards, set_transition, shape_rewards, snapshot
+from tests.helper import value_with_transition
 
 EVERY_OTHER_CALL = [
     set_reward(0, 0, 0, 0, [1]),
@@ -17,16 +19,16 @@ EVERY_OTHER_CALL = [
     set_deterministic([0, 0, 0, 0]),
     are_equivalent(),
     optimal_values(0),
-    [11, 0, 0, 0],
-    [12, 0, 0],
-    [13, 0],
-    [14, 0, 2, 0, 0],
-    [15],
-    [16],
-    [17, 4, 0, 0, 0, 0],
-    [18],
-    [19, 0, 0, 0],
-    [20, 0, 0, 0, 0, 2, 1, 1],
+    action_value(0, 0, 0),
+    optimal_actions(0, 0),
+    optimal_policy(0),
+    policy_values(0, [0, 0]),
+    same_optimal_actions(),
+    regrets(),
+    distinguishes([0, 0, 0, 0]),
+    distinguishing_world(),
+    expected_reward(0, 0, 0),
+    value_with_transition(0, 0, 0, 0, [1, 1]),
 ]
 
 # Each of these would be refused for another reason too, if there were a process.
@@ -40,6 +42,21 @@ WRONG_CALLS = [
     get_transition(9, 9),
     set_deterministic([]),
     optimal_values(2),
+    action_value(2, 9, 9),
+    action_value(GREATEST, GREATEST, GREATEST),
+    optimal_actions(2, 9),
+    optimal_policy(2),
+    policy_values(2, []),
+    policy_values(0, [9, 9]),
+    policy_values(0, [0] * 6),
+    distinguishes([]),
+    distinguishes([9, 9]),
+    distinguishes([GREATEST] * 14),
+    expected_reward(2, 9, 9),
+    value_with_transition(9, 9, 2, 9, []),
+    value_with_transition(0, 0, 0, 0, []),
+    value_with_transition(0, 0, 0, 0, [0, 0]),
+    value_with_transition(0, 0, 0, 0, [10, 0]),
 ]
 
 REFUSED_CREATES = [
@@ -87,7 +104,8 @@ class Create(unittest.TestCase):
     def test_all_rewards_are_0_and_every_action_leads_back(self):
         for states in (2, 3, 4):
             for actions in (1, 2, 3):
-                tables, transitions = snapshot(states, actions, create(states, actions, 1, 2))
+                tables, transitions, values = snapshot(states, actions, create(states, actions, 1, 2))
+                self.assertEqual(values, [[states] + [0, 1] * states] * 2)
                 self.assertEqual(tables, [[0] * (states * actions * states)] * 2)
                 expected = [
                     [states] + [int(state == following) for following in range(states)]

@@ -1,13 +1,18 @@
 """The one function of the interface: how calls are read and answers given back."""
 
+import ast
 import contextlib
 import io
+import pathlib
+import re
 import unittest
 
 from shapedrewards.process import answers
-from tests.helper import GREATEST, GREATEST_SIGNED, LEAST_SIGNED, are_equivalent, ask, copy_rewards, create
-from tests.helper import get_transition, optimal_values, scale_rewards, set_deterministic, set_reward, set_rewards
-from tests.helper import set_transition, shape_rewards
+from tests.helper import GREATEST, GREATEST_SIGNED, LEAST_SIGNED, Numbers, Reckoned, action_value, answer
+from tests.helper import are_equivalent, ask, copy_rewards, create, distinguishes, distinguishing_world
+from tests.helper import expected_reward, get_transition, optimal_actions, optimal_policy, optimal_values
+from tests.helper import policy_values, regrets, same_optimal_actions, scale_rewards, set_deterministic
+from tests.helper import set_reward, set_rewards, set_transition, shape_rewards, value_with_transition, written
 
 SMALL = [
     create(2, 1, 1, 2),
@@ -20,66 +25,68 @@ SMALL = [
     optimal_values(0),
 ]
 
-# Calls of the next stage, each with as many numbers as its form tells.
-LATER_CALLS = [
-    [11, 0, 1, 1],
-    [12, 0, 1],
-    [13, 1],
-    [14, 0, 0],
-    [14, 0, 2, 1, 0],
-    [14, 0, 6, 9, 9, 9, 9, 9, 9],
-    [15],
-    [16],
-    [17, 0],
-    [17, 4, 0, 1, 1, 0],
-    [17, 14] + [9] * 14,
-    [18],
-    [19, 1, 0, 1],
-    [20, 1, 0, 1, 0, 0],
-    [20, 1, 0, 1, 0, 2, 9, 1],
-    [20, 1, 0, 1, 0, 6, 9, 9, 9, 9, 9, 9],
+# Every call of the interface, answered and refused.
+ALL = SMALL + [
+    copy_rewards(1),
+    scale_rewards(1, 2),
+    set_reward(1, 0, 0, 0, [-7]),
+    set_transition(0, 0, [2, 7]),
+    are_equivalent(),
+    action_value(0, 0, 0),
+    optimal_actions(1, 1),
+    optimal_policy(1),
+    policy_values(1, [0, 0]),
+    same_optimal_actions(),
+    regrets(),
+    distinguishes([1, 0]),
+    distinguishing_world(),
+    expected_reward(1, 0, 0),
+    value_with_transition(0, 0, 1, 1, [5, 4]),
+    get_transition(0, 0),
+    action_value(2, 0, 0),
+    policy_values(1, [1, 0]),
+    distinguishes([2, 0]),
+    value_with_transition(0, 0, 1, 1, [0, 0]),
+    create(3, 1, 10, 10),
+    optimal_values(1),
+    create(2, 2, 2, 3),
+    set_rewards(1, [0, 0, 3, 3, 0, 0, 0, 0]),
+    distinguishing_world(),
+    regrets(),
 ]
-
 
 def joined(calls):
     return [number for call in calls for number in call]
 
 
 class Examples(unittest.TestCase):
-    start = [
-        create(2, 2, 1, 2),
-        set_deterministic([0, 1, 1, 0]),
-        set_reward(0, 0, 1, 1, [4]),
-        set_reward(0, 1, 0, 1, [2]),
-        optimal_values(0),
-    ]
+    def test_all_rows_as_one_request(self):
+        rows = [
+            (create(2, 2, 1, 2), [8]),
+            (set_deterministic([0, 1, 1, 0]), [0]),
+            (set_reward(0, 0, 1, 1, [4]), [0, 0]),
+            (set_reward(0, 1, 0, 1, [2]), [0, 0]),
+            (optimal_values(0), [2, 6, 1, 4, 1]),
+            (optimal_policy(0), [2, 1, 0]),
+            (same_optimal_actions(), [0]),
+            (regrets(), [2, 0, 1, 0, 1]),
+            (copy_rewards(1), [0]),
+            (shape_rewards(1, [1, 0]), [0]),
+            (are_equivalent(), [1]),
+            (optimal_values(1), [2, 4, 1, 4, 1]),
+            (policy_values(0, [0, 0]), [2, 0, 1, 4, 1]),
+            (optimal_actions(2, 0), [-2]),
+        ]
+        calls = joined([call for call, _ in rows])
+        expected = joined([[len(answered)] + answered for _, answered in rows])
+        self.assertEqual(answers(calls), expected)
 
-    def test_the_rows_of_this_stage(self):
-        given = ask(
-            *self.start,
-            copy_rewards(1),
-            shape_rewards(1, [1, 0]),
-            are_equivalent(),
-            optimal_values(1),
-        )
-        expected = [[8], [0], [0, 0], [0, 0], [2, 6, 1, 4, 1], [0], [0], [1], [2, 4, 1, 4, 1]]
-        self.assertEqual(given, expected)
 
-    def test_the_rows_of_this_stage_among_the_others(self):
-        given = ask(
-            *self.start,
-            [13, 0],
-            [15],
-            [16],
-            copy_rewards(1),
-            shape_rewards(1, [1, 0]),
-            are_equivalent(),
-            optimal_values(1),
-            [14, 0, 2, 0, 0],
-            [12, 2, 0],
-        )
-        self.assertEqual(given[:5], [[8], [0], [0, 0], [0, 0], [2, 6, 1, 4, 1]])
-        self.assertEqual(given[8:12], [[0], [0], [1], [2, 4, 1, 4, 1]])
+class Readme(unittest.TestCase):
+    def test_its_example_is_answered_as_it_says(self):
+        text = (pathlib.Path(__file__).resolve().parent.parent / "README.md").read_text()
+        calls, said = re.search(r"\nanswers\((\[.*?\])\)\n# (\[.*?\])\n", text, re.DOTALL).groups()
+        self.assertEqual(answers(ast.literal_eval(calls)), ast.literal_eval(said))
 
 
 class Form(unittest.TestCase):
@@ -94,7 +101,7 @@ class Form(unittest.TestCase):
         self.assertEqual(answers([9]), [1, -11])
 
     def test_whole_numbers_and_never_true_or_false(self):
-        given = answers(joined(SMALL + [are_equivalent(), copy_rewards(1), are_equivalent()]))
+        given = answers(joined(ALL + [copy_rewards(1), are_equivalent()]))
         self.assertIs(type(given), list)
         self.assertEqual({type(number) for number in given}, {int})
 
@@ -110,6 +117,11 @@ class Form(unittest.TestCase):
         refused += [set_deterministic([1] * length) for length in range(15) if length != 2]
         given = ask(create(2, 1, 1, 2), *refused, set_deterministic([1, 1]), get_transition(0, 0))
         self.assertEqual(given, [[4]] + [[-22]] * len(refused) + [[0], [2, 0, 1]])
+        refused = [policy_values(0, [0] * length) for length in (0, 1, 3, 4, 5, 6)]
+        refused += [value_with_transition(0, 0, 0, 0, [7] * length) for length in (0, 1, 3, 4, 5, 6)]
+        refused += [distinguishes([1] * length) for length in range(15) if length != 2]
+        given = ask(create(2, 1, 1, 2), *refused, distinguishes([1, 1]), get_transition(0, 0))
+        self.assertEqual(given, [[4]] + [[-22]] * len(refused) + [[0], [2, 1, 0]])
 
     def test_numbers_in_a_list_are_not_taken_for_calls(self):
         given = ask(create(2, 1, 1, 2), set_rewards(0, [0, 2, 1, 9]), set_rewards(0, [9, 9]), optimal_values(0))
@@ -135,8 +147,19 @@ class Form(unittest.TestCase):
             scale_rewards(0, most),
             set_transition(0, 0, [most] * 2),
             set_deterministic([most] * 2),
+            action_value(most, most, most),
+            optimal_actions(most, most),
+            optimal_policy(most),
+            policy_values(most, [most] * 6),
+            policy_values(0, [most] * 2),
+            distinguishes([most] * 14),
+            distinguishes([most] * 2),
+            expected_reward(most, most, most),
+            value_with_transition(most, most, most, most, [most] * 6),
+            value_with_transition(0, 0, 0, 0, [most] * 2),
         ]
         expected = [4, -22, -2, -2, -2, -2, -2, -2, -2, -22, -2, -22, -22, -22, -22, -22, -22]
+        expected += [-2, -2, -2, -2, -22, -22, -22, -2, -2, -22]
         self.assertEqual(ask(*calls), [[code] for code in expected])
 
     def test_the_longest_request(self):
@@ -145,16 +168,58 @@ class Form(unittest.TestCase):
         calls = [create(4, 3, 9, 10)] + [optimal_values(0)] * 59
         self.assertEqual(ask(*calls), [[48]] + [[4, 0, 1, 0, 1, 0, 1, 0, 1]] * 59)
 
-    def test_calls_of_the_next_stage_are_read_by_their_form(self):
-        for later in LATER_CALLS:
-            given = ask(later, *SMALL[:2], later, set_reward(0, 0, 0, 1, [7]), later, get_transition(1, 0))
-            self.assertEqual(given[0], [-11])
-            self.assertEqual(given[1:3] + [given[4], given[6]], [[4], [0], [0, 2], [2, 0, 1]])
+    def test_the_longest_request_with_64_worlds(self):
+        process = Reckoned.drawn(Numbers(101), 2, 3, 1000)
+        alike = process.calls() + [scale_rewards(0, 100), copy_rewards(1), shape_rewards(1, [1000, -1000])]
+        alike += [distinguishing_world()] * (60 - len(alike))
+        self.assertEqual(len(alike), 60)
+        self.assertEqual(ask(*alike)[12:], [[-33]] * 48)
+        firsts = [world for world in process.worlds() if process.in_world(world).differs()][:1]
+        made = process.calls()
+        given = ask(*made, *[distinguishing_world()] * (60 - len(made)))
+        self.assertEqual(given[len(made):], [[6] + firsts[0]] * (60 - len(made)))
+
+    def test_the_longest_request_with_4_states_and_3_actions(self):
+        numbers = Numbers(102)
+        transitions = [numbers.row(4, 1, 9) for _ in range(12)]
+        process = Reckoned(4, 3, 9, 10, [numbers.row(48, -1000, 1000) for _ in range(2)], transitions)
+        other = process.with_transitions(transitions[:7] + [[9, 8, 7, 6]] + transitions[8:])
+        made = process.calls()
+        for call, expected in (
+            (optimal_values(1), [4] + written(process.best(1))),
+            (optimal_actions(0, 3), [len(process.optimal(0)[3])] + process.optimal(0)[3]),
+            (optimal_policy(1), [4] + [actions[0] for actions in process.optimal(1)]),
+            (same_optimal_actions(), [int(not process.differs())]),
+            (regrets(), [4] + written(process.regrets())),
+            (distinguishes([3] * 12), [int(process.in_world([3] * 12).differs())]),
+            (distinguishing_world(), [-75]),
+            (value_with_transition(2, 1, 0, 3, [9, 8, 7, 6]), [0] + written(other.best(0)[3:])),
+        ):
+            count = 60 - len(made)
+            self.assertEqual(ask(*made, *[call] * count)[len(made):], [expected] * count)
+
+    def test_each_call_reads_its_arguments_in_the_order_of_its_form(self):
+        # Most of these would be refused if two of their arguments changed places.
+        made = [create(4, 3, 1, 2), set_rewards(1, [8] * 48), set_deterministic([3] * 12)]
+        for call, expected in (
+            (action_value(1, 3, 2), [0, 16, 1]),
+            (optimal_actions(1, 3), [3, 0, 1, 2]),
+            (policy_values(1, [2, 2, 2, 2]), [4, 16, 1, 16, 1, 16, 1, 16, 1]),
+            (expected_reward(1, 3, 2), [0, 8, 1]),
+            (value_with_transition(3, 2, 1, 3, [0, 0, 0, 9]), [0, 16, 1]),
+            (value_with_transition(3, 0, 1, 2, [0, 0, 0, 9]), [0, 16, 1]),
+        ):
+            self.assertEqual(ask(*made, call, are_equivalent())[3:], [expected, [1]])
+        few = [create(2, 3, 1, 2)]
+        self.assertEqual(answer(*few, action_value(0, 1, 2)), [0, 0, 1])
+        self.assertEqual(answer(*few, expected_reward(0, 1, 2)), [0, 0, 1])
+        self.assertEqual(answer(*few, value_with_transition(1, 2, 0, 1, [1, 1])), [0, 0, 1])
+        self.assertEqual(answer(*few, value_with_transition(2, 1, 0, 1, [1, 1])), [-2])
 
 
 class NothingElse(unittest.TestCase):
     def test_what_is_handed_in_is_the_same_afterwards(self):
-        calls = joined(SMALL)
+        calls = joined(ALL)
         same = list(calls)
         answers(calls)
         self.assertEqual(calls, same)
@@ -167,25 +232,26 @@ class NothingElse(unittest.TestCase):
             __setitem__ = __delitem__ = __iadd__ = __imul__ = refuse
             append = extend = insert = pop = remove = clear = sort = reverse = refuse
 
-        self.assertEqual(answers(Watched(joined(SMALL))), answers(joined(SMALL)))
+        self.assertEqual(answers(Watched(joined(ALL))), answers(joined(ALL)))
 
     def test_one_time_does_not_know_of_another(self):
-        first = answers(joined(SMALL))
-        self.assertEqual(answers(joined(SMALL)), first)
+        first = answers(joined(ALL))
+        self.assertEqual(answers(joined(ALL)), first)
         self.assertEqual(answers(get_transition(0, 0)), [1, -11])
+        self.assertEqual(answers(regrets()), [1, -11])
         self.assertEqual(answers(joined([create(2, 1, 1, 2), optimal_values(0)])), [1, 4, 5, 2, 0, 1, 0, 1])
-        self.assertEqual(answers(joined(SMALL)), first)
+        self.assertEqual(answers(joined(ALL)), first)
 
     def test_what_is_given_back_may_be_changed(self):
-        first = answers(joined(SMALL))
+        first = answers(joined(ALL))
         kept = list(first)
         first.clear()
-        self.assertEqual(answers(joined(SMALL)), kept)
+        self.assertEqual(answers(joined(ALL)), kept)
 
     def test_it_prints_nothing(self):
         printed, complained = io.StringIO(), io.StringIO()
         with contextlib.redirect_stdout(printed), contextlib.redirect_stderr(complained):
-            answers(joined(SMALL))
+            answers(joined(ALL))
         self.assertEqual(printed.getvalue() + complained.getvalue(), "")
 
 

@@ -1,12 +1,13 @@
 """Exact numbers of any size, below the calls: linear equations and fractions.
 
-The limits of the calls keep optimal values within 64 bits; what computes them must not need that.
+The limits of the calls keep optimal values within 64 bits, but not regrets; nothing here may need that.
 """
 
 import unittest
 from fractions import Fraction
 
-from shapedrewards.fraction import greater, greatest_common_divisor, lowest_terms, written
+from shapedrewards.fraction import added, greater, greatest_common_divisor, less, lowest_terms, same, written
+from shapedrewards.rows import every_row
 from shapedrewards.worth import solution
 from tests.helper import Numbers
 
@@ -38,9 +39,34 @@ class Fractions(unittest.TestCase):
         self.assertEqual(greater((BIG, BIG + 1), (BIG + 1, BIG + 2)), (BIG + 1, BIG + 2))
         self.assertEqual(lowest_terms(greater((2, 4), (1, 2))), (1, 2))
 
+    def test_added_and_less(self):
+        self.assertEqual(lowest_terms(added((1, 2), (1, 3))), (5, 6))
+        self.assertEqual(lowest_terms(added((-1, 2), (2, 4))), (0, 1))
+        self.assertEqual(lowest_terms(less((1, 2), (1, 3))), (1, 6))
+        self.assertEqual(lowest_terms(less((1, 3), (1, 2))), (-1, 6))
+        self.assertEqual(lowest_terms(less((-1, 3), (-1, 3))), (0, 1))
+        self.assertEqual(lowest_terms(less((1, BIG), (1, BIG + 1))), (1, BIG * (BIG + 1)))
+
+    def test_same(self):
+        self.assertTrue(same((1, 2), (3, 6)))
+        self.assertTrue(same((0, 5), (0, 7)))
+        self.assertTrue(same((-2, 4), (-1, 2)))
+        self.assertFalse(same((-1, 2), (1, 2)))
+        self.assertFalse(same((BIG, BIG + 1), (BIG + 1, BIG + 2)))
+
     def test_written(self):
         self.assertEqual(written([(4, 2), (-3, 9), (0, 5), (3 * BIG, 6)]), [2, 1, -1, 3, 0, 1, BIG // 2, 1])
         self.assertEqual(written([]), [])
+
+
+class Rows(unittest.TestCase):
+    def test_every_row_in_lexicographic_order(self):
+        self.assertEqual(every_row(2, 3), [[0, 0], [0, 1], [0, 2], [1, 0], [1, 1], [1, 2], [2, 0], [2, 1], [2, 2]])
+        self.assertEqual(every_row(3, 1), [[0, 0, 0]])
+        for length, beyond in ((4, 3), (6, 2), (3, 3)):
+            rows = every_row(length, beyond)
+            self.assertEqual(rows, sorted(rows))
+            self.assertEqual(len({tuple(row) for row in rows}), beyond ** length)
 
 
 class Solution(unittest.TestCase):
